@@ -1,0 +1,1 @@
+"""Squaretimes: sums of squares, multiplied."""

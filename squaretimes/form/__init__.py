@@ -1,0 +1,1 @@
+"""Sign tables, and the formulas that are made of them."""
