@@ -9,7 +9,7 @@ TOO_GREAT = 10 ** 60
 
 # Values that are no integers, of many kinds.
 NO_INTEGERS = (
-    None, True, False, "", "1", "a\tb\n", (), (1,), ((1,),), [], [1], {}, {"a": 1}, {1: [2]},
+    None, True, False, "", "1", "a\tb\n", (), (1,), (1, (2, "x")), [], [1], {}, {"a": 1}, {1: [2]},
     Ratio(1), Ratio(1, 2), SignTable((1,)),
 )
 # Values that are never passed as integers, and such that are never passed as ratios.

@@ -64,7 +64,8 @@ class Made(Case, unittest.TestCase):
         ratio = Ratio(2, 3)
         for name in ("top", "bottom", "sign"):
             self.assertRaises(AttributeError, setattr, ratio, name, 5)
-        ratio + 1, ratio - ratio, ratio * 4, -ratio, ratio.over(-7), ratio.compared(2), ratio == 1, bool(ratio), str(ratio)
+        ratio + 1, ratio - ratio, ratio * 4, -ratio, ratio == 1, bool(ratio), str(ratio)
+        ratio.over(-7), ratio.compared(2)
         changed = ratio
         changed += 1
         self.assert_parts(ratio, 2, 3)
@@ -217,10 +218,10 @@ class Written(Case, unittest.TestCase):
 
     def test_texts_of_no_ratio(self):
         texts = (
-            "", " ", "-", "/", "1/", "/2", "-/2", "+1", "1/+2", "+1/2", " 1", "1 ", "1 /2", "1/ 2", "1\n", "\t1", "1\n/2",
-            "01", "-01", "00", "1/02", "01/2", "-0", "-0/1", "0/2", "0/1", "1/1", "5/1", "1/0", "0/0", "-1/0", "2/4", "-6/4",
-            "3/3", "1/-2", "-1/-2", "--1", "-+1", "1/2/3", "1//2", "1.0", "1e3", "1_0", "0x1", "a", "one", "1/a", "1a",
-            "None", "True", "\u0661", "\u00b2", "1/\u0662", "1,2", "(1)", "1" * 4000,
+            "", " ", "-", "/", "1/", "/2", "-/2", "+1", "1/+2", "+1/2", " 1", "1 ", "1 /2", "1/ 2", "1\n", "\t1",
+            "1\n/2", "01", "-01", "00", "1/02", "01/2", "-0", "-0/1", "0/2", "0/1", "1/1", "5/1", "1/0", "0/0", "-1/0",
+            "2/4", "-6/4", "3/3", "1/-2", "-1/-2", "--1", "-+1", "1/2/3", "1//2", "1.0", "1e3", "1_0", "0x1", "a",
+            "one", "1/a", "1a", "None", "True", "\u0661", "\u00b2", "1/\u0662", "1,2", "(1)", "1" * 4000,
         )
         for text in texts:
             self.assert_kept(ParseError, "spot", 0, Ratio.read, text)
@@ -229,8 +230,11 @@ class Written(Case, unittest.TestCase):
         self.assertTrue(Ratio.read("9" * 60) == GREAT)
         self.assertTrue(Ratio.read("-" + "9" * 60) == -GREAT)
         self.assertTrue(Ratio.read("-1/" + "9" * 60) == Ratio(-1, GREAT))
-        for text in ("1" + "0" * 60, "-1" + "0" * 60, "1/1" + "0" * 60, "-1/1" + "0" * 60, "0" * 61, "1/" + "0" * 60 + "2"):
-            self.assert_kept(ParseError, "spot", 0, Ratio.read, text)
+        noughts = "0" * 60
+        for number in ("1" + noughts, "-1" + noughts, "0" + noughts, noughts + "2"):
+            self.assert_kept(ParseError, "spot", 0, Ratio.read, number)
+            self.assert_kept(ParseError, "spot", 0, Ratio.read, "1/" + number)
+            self.assert_kept(ParseError, "spot", 0, Ratio.read, number + "/7")
 
     def test_values_that_are_no_strings(self):
         for value in (None, True, 0, 1, 10 ** 70, (), ("1",), ["1"], {}, {"1": "1"}, b"1", Ratio(1), SignTable((1,))):

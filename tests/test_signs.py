@@ -53,9 +53,9 @@ class Made(Case, unittest.TestCase):
     def test_marks_that_tell_no_table(self):
         refused = (
             (), (0,), (2,), (-2,), (1, 1), (1, -1), (2, -2), (0, 1), (1, 0, 2), (1, 3), (1, 2, 4), (2, 3, 4), (1, 2, 2),
-            (True,), (True, 2), (2, True), (-1, False), (1, "2"), ("1",), (1, None), (None,), (1.0,), (1, (2,)), ((1,),),
-            (1, [2]), (Ratio(1),), (Ratio(1), 2), (1, 10 ** 99), (-10 ** 60,), [1], [1, 2], [], {}, {1: 2}, {1}, None, True,
-            False, 0, 1, "1", "1 2", "", Ratio(1), SignTable((1,)), b"\x01",
+            (True,), (True, 2), (2, True), (-1, False), (1, "2"), ("1",), (1, None), (None,), (1.0,), (1, (2,)),
+            ((1,),), (1, [2]), (Ratio(1),), (Ratio(1), 2), (1, 10 ** 99), (-10 ** 60,), [1], [1, 2], [], {}, {1: 2},
+            {1}, None, True, False, 0, 1, "1", "1 2", "", Ratio(1), SignTable((1,)), b"\x01",
         )
         for marks in refused:
             self.assert_error(InvalidTable, SignTable, marks)
@@ -190,9 +190,9 @@ class Written(Case, unittest.TestCase):
 
     def test_texts_of_no_table(self):
         texts = (
-            "", " ", "0", "2", "1 1", "1 -1", "1 3", "1  2", " 1", "1 ", "1 2 ", "1\t2", "1\n2", "1 2\n", "+1", "01", "1 02",
-            "-0", "1 +2", "1,2", "1, 2", "(1, 2)", "1/1", "2/2 1", "1.0", "a", "1 a", "- 1", "--1", "1 --2", "\u0661", "1 \u00b2",
-            " ".join(map(str, range(1, 66))), "1" * 4000, "1 " + "0" * 60 + "2", "True", "None",
+            "", " ", "0", "2", "1 1", "1 -1", "1 3", "1  2", " 1", "1 ", "1 2 ", "1\t2", "1\n2", "1 2\n", "+1", "01",
+            "1 02", "-0", "1 +2", "1,2", "1, 2", "(1, 2)", "1/1", "2/2 1", "1.0", "a", "1 a", "- 1", "--1", "1 --2",
+            "\u0661", "1 \u00b2", " ".join(map(str, range(1, 66))), "1" * 4000, "1 " + "0" * 60 + "2", "True", "None",
         )
         for text in texts:
             self.assert_kept(ParseError, "spot", 0, SignTable.read, text)
@@ -205,8 +205,8 @@ class Written(Case, unittest.TestCase):
 class Listed(unittest.TestCase):
     def test_all_is_defined_in_the_class_itself(self):
         names = (
-            "idle", "read", "size", "marks", "trace", "is_idle", "turned", "table", "__mul__", "__neg__", "__eq__", "__str__",
-            "__init__",
+            "idle", "read", "size", "marks", "trace", "is_idle", "turned", "table", "__mul__", "__neg__", "__eq__",
+            "__str__", "__init__",
         )
         for name in names:
             self.assertIn(name, vars(SignTable))

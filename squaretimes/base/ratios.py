@@ -1,6 +1,6 @@
 """Ratios: fractions in lowest terms."""
 
-from math import gcd
+from math import gcd, lcm
 
 from squaretimes.base.integers import is_integer, is_passed_integer, read_integer, sign_of
 from squaretimes.errors import InvalidNumber, InvalidOperation, InvalidRatio, ParseError
@@ -22,7 +22,9 @@ class Ratio:
             raise InvalidNumber(top)
         if not is_passed_integer(bottom) or bottom == 0:
             raise InvalidNumber(bottom)
-        self._top, self._bottom = _lowest_terms(top, bottom)
+        terms = _lowest_terms(top, bottom)
+        self._top = terms[0]
+        self._bottom = terms[1]
 
     @staticmethod
     def read(text):
@@ -121,6 +123,20 @@ def parts_of(ratio):
     return ratio, 1
 
 
+def as_ratio(value):
+    """The ratio of the same worth as a ratio or an integer."""
+    return value if isinstance(value, Ratio) else ratio_of(value, 1)
+
+
+def over_one_bottom(values):
+    """The tops of ratios and integers that are brought to one bottom, and this bottom."""
+    parts = [parts_of(value) for value in values]
+    common = 1
+    for _, bottom in parts:
+        common = lcm(common, bottom)
+    return [top * (common // bottom) for top, bottom in parts], common
+
+
 def is_ratio(value):
     """Whether the value is a ratio, or an integer that can be passed in its place."""
     return isinstance(value, Ratio) or is_passed_integer(value)
@@ -130,3 +146,16 @@ def check_ratio(value):
     """Refuses every value that is not passed as a ratio."""
     if not is_ratio(value):
         raise InvalidRatio("neither a ratio nor an integer")
+
+
+def are_ratios(value, least, most):
+    """Whether the value is a tuple of ratios and integers, from the least to the most of them."""
+    if not (isinstance(value, tuple) and least <= len(value) <= most):
+        return False
+    return all([is_ratio(member) for member in value])
+
+
+def check_ratios(value, least, most):
+    """Refuses every value that is not passed as so many ratios and integers."""
+    if not are_ratios(value, least, most):
+        raise InvalidRatio("no tuple of so many ratios and integers")

@@ -2,10 +2,10 @@
 
 from squaretimes.base.integers import check_number, is_integer, read_integer, sign_of
 from squaretimes.base.ratios import Ratio
+from squaretimes.base.tables import MAX_SIDE
 from squaretimes.errors import InvalidOperation, InvalidTable, ParseError, TooMany
 
 MAX_SIZE = 64
-_MOST_ROWS = 32
 
 
 def _tell_table(marks):
@@ -78,8 +78,8 @@ class SignTable:
     def table(self):
         """The table of ratios with the same entries."""
         size = len(self._marks)
-        if size > _MOST_ROWS:
-            raise TooMany(_MOST_ROWS)
+        if size > MAX_SIDE:
+            raise TooMany(MAX_SIDE)
         return tuple([_row_of(mark, size) for mark in self._marks])
 
     def __mul__(self, other):

@@ -1,0 +1,1 @@
+"""Sums of squares of numbers."""
