@@ -58,9 +58,8 @@ class Levels(Case, unittest.TestCase):
 
     def test_refusals(self):
         squared = [number for number in list(range(2, 600)) + list(range(MOST - 150, MOST + 1)) if not is_free(number)]
-        self.assertIn(9409, squared + [97 * 97])
-        primes = [4, 9, 25, 49, 4 * 7, 9 * 7, 89 * 89, 97 * 97, 2 * 67 * 67, 7 * 37 * 37, MOST]
-        for value in NO_INTEGERS + tuple(squared + primes) + (0, -1, -2, -7, MOST + 1, MOST + 7, 10 ** 99, -10 ** 99):
+        squared = squared + [89 * 89, 97 * 97, 2 * 67 * 67, 7 * 37 * 37]
+        for value in NO_INTEGERS + tuple(squared) + (0, -1, -2, -7, MOST + 1, MOST + 7, 10 ** 99, -10 ** 99):
             self.assert_number(value, level, value)
             self.assert_number(value, level_paper, value)
             self.assert_number(value, is_level_paper, value, ())
