@@ -179,7 +179,7 @@ class Code(unittest.TestCase):
     def test_keywords_of_builtins(self):
         for path, node in nodes(ast.Call):
             if isinstance(node.func, ast.Name) and node.func.id in BUILTINS:
-                self.assertLessEqual({word.arg for word in node.keywords}, {"start"}, (path, node.lineno))
+                self.assertLessEqual({word.arg for word in node.keywords}, {"start", "reverse"}, (path, node.lineno))
 
     def test_strings_and_exponents(self):
         for path, node in nodes((ast.Constant, ast.BinOp, ast.Compare)):

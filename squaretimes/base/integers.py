@@ -22,6 +22,15 @@ def check_number(value, least, most):
         raise InvalidNumber(value)
 
 
+def is_ascending(value, bound):
+    """Whether the value is an ascending tuple of integers from 0 on that are below the bound."""
+    if not (isinstance(value, tuple) and all([is_integer(member) for member in value])):
+        return False
+    if not all([0 <= member < bound for member in value]):
+        return False
+    return all([member < later for member, later in zip(value, value[1:])])
+
+
 def sign_of(number):
     """1, 0 or -1, as the integer is above 0, 0 or below 0."""
     if number < 0:

@@ -1,24 +1,15 @@
 """Questions of parity: places that lie in rows an odd or an even number of times."""
 
-from squaretimes.base.integers import is_integer
+from squaretimes.base.integers import is_ascending, is_integer
 from squaretimes.errors import InvalidOperation
 
 MAX_ROWS = 2000
 _PLACES = 1000
 
 
-def _is_ascending(value, bound):
-    """Whether the value is an ascending tuple of integers from 0 on that are below the bound."""
-    if not (isinstance(value, tuple) and all([is_integer(member) for member in value])):
-        return False
-    if not all([0 <= member < bound for member in value]):
-        return False
-    return all([member < later for member, later in zip(value, value[1:])])
-
-
 def _check_question(rows, sides):
     """Refuses rows that are not as told, or else sides that are not."""
-    if not (isinstance(rows, tuple) and len(rows) <= MAX_ROWS and all([_is_ascending(row, _PLACES) for row in rows])):
+    if not (isinstance(rows, tuple) and len(rows) <= MAX_ROWS and all([is_ascending(row, _PLACES) for row in rows])):
         raise InvalidOperation("no rows of ascending places")
     if not (isinstance(sides, tuple) and len(sides) == len(rows)):
         raise InvalidOperation("not as many sides as rows")
@@ -88,8 +79,8 @@ def is_solved(rows, sides, value):
         return False
     word, members = value
     if word == "solution":
-        return _is_ascending(members, _PLACES) and _is_solution(rows, sides, _mask_of(members))
-    return word == "odd" and _is_ascending(members, len(rows)) and _is_odd_lot(rows, sides, members)
+        return is_ascending(members, _PLACES) and _is_solution(rows, sides, _mask_of(members))
+    return word == "odd" and is_ascending(members, len(rows)) and _is_odd_lot(rows, sides, members)
 
 
 def _is_solution(rows, sides, chosen):

@@ -26,7 +26,7 @@ def squares_of(ratio, many):
     if abs(top * bottom) > MAX_SQUARED:
         raise TooMany(MAX_SQUARED)
     # The ratio is top * bottom, divided by the square of the bottom.
-    roots = _roots(top * bottom, many)
+    roots = square_roots(top * bottom, many)
     return None if roots is None else tuple([Ratio(root, bottom) for root in roots])
 
 
@@ -34,10 +34,10 @@ def whole_squares(number, many):
     """So many integers whose squares add up to the number, or None."""
     check_number(number, 0, MAX_SQUARED)
     check_number(many, 1, _MOST_SQUARES)
-    return _roots(number, many)
+    return square_roots(number, many)
 
 
-def _roots(number, many):
+def square_roots(number, many):
     """So many integers whose squares add up to the number, the greatest one first, or None."""
     if number < 0 or (many == 3 and _is_no_three(number)):
         return None
@@ -46,11 +46,11 @@ def _roots(number, many):
         return (root,) if root * root == number else None
     # Up to three squares add up to a multiple of 4 only if all of them are even.
     if number > 0 and number % 4 == 0 and many < 4:
-        halves = _roots(number // 4, many)
+        halves = square_roots(number // 4, many)
         return None if halves is None else tuple([half * 2 for half in halves])
     # The greatest one of so many squares has at least its share of the number.
     for root in range(isqrt(number), isqrt(number // many) - 1, -1):
-        rest = _roots(number - root * root, many - 1)
+        rest = square_roots(number - root * root, many - 1)
         if rest is not None:
             return (root,) + rest
     return None

@@ -1,0 +1,1 @@
+"""Doubled algebras, and the eights among them."""

@@ -1,0 +1,1 @@
+"""Folded tables: rules with quotients of the unknowns."""

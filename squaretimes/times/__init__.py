@@ -1,0 +1,1 @@
+"""Multiplications that are handed in, and products of rows with their area."""
