@@ -59,8 +59,10 @@ class Doubled:
         return isinstance(other, Doubled) and self._squares == other._squares
 
     def __str__(self):
-        words = ["doubled by"] + [str(square) for square in self._squares]
-        return " ".join(words) if self._squares else "ratios"
+        if not self._squares:
+            return "ratios"
+        words = " ".join([str(square) for square in self._squares])
+        return f"doubled by {words}"
 
 
 def check_algebra(value):
@@ -184,7 +186,9 @@ class Element:
     def __str__(self):
         terms = "".join([_term(at, entry) for at, entry in enumerate(self._entries) if entry])
         text = terms.removeprefix("+") if terms else "0"
-        return text if self._bottom == 1 else f"({text})/{self._bottom}"
+        if self._bottom == 1:
+            return str(text)
+        return f"({text})/{self._bottom}"
 
 
 def _lowest_terms(entries, bottom):
@@ -306,7 +310,7 @@ def _nought_entries(squares):
 
 def _nought_of_three(squares):
     """Entries of an element with the norm 0 for three squares that are not all below 0."""
-    vector, (root,), _ = light_vector(unit_norms(squares)[1:], -1, 1)
+    vector, (root,), _ = light_vector(unit_norms(squares)[1:], -1, 1, 3)
     tops, bottom = over_one_bottom(vector)
     return tuple([root * bottom] + tops)
 

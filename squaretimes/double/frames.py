@@ -28,12 +28,12 @@ def _pure(algebra, vector):
 def _definite_frame(algebra):
     """Three elements with the squares -1."""
     norms = unit_norms(algebra.squares)[1:]
-    vector, (root,), _ = light_vector(norms, 1, 1)
+    vector, (root,), _ = light_vector(norms, 1, 1, 3)
     x = _pure(algebra, vector).scaled(Ratio(1, root))
     # The other units stand upright to x. Multiplied by 1 and x, one such element has all sums of two squares times its
     # norm as norms: its own norm is to be a sum of two squares, so that 1 is among them.
     free = [at for at, entry in enumerate(vector) if not entry]
-    upright, roots, _ = light_vector([norms[at] for at in free], 1, 2)
+    upright, roots, _ = light_vector([norms[at] for at in free], 1, 2, 0)
     other = _pure(algebra, [_entry_at(at, free, upright) for at in range(len(norms))])
     y = _combined((algebra.one(), x), roots) * other.scaled(Ratio(1).over(other.norm))
     third = _upright(algebra, (x, y, x * y))
@@ -52,7 +52,7 @@ def _entry_at(place, places, entries):
 def _split_frame(algebra):
     """Three elements with the squares 1, in an eight that is not definite."""
     norms = unit_norms(algebra.squares)[1:]
-    vector, (root,), _ = light_vector(norms, -1, 1)
+    vector, (root,), _ = light_vector(norms, -1, 1, 3)
     x = _pure(algebra, vector).scaled(Ratio(1, root))
     _, least = min([(abs(norms[at]), at) for at, entry in enumerate(vector) if not entry])
     other = algebra.units()[least + 1]

@@ -1,12 +1,10 @@
 """Weighted squares: light vectors, whose weighted squares add up to a multiple of some squares."""
 
-from squaretimes.base.integers import sign_of
 from squaretimes.base.ratios import Ratio
 from squaretimes.square.sums import square_roots
 
+MOST_LIGHT = 10 ** 6
 _MOST_ROOT = 1000
-# Five weights, not all of one sign, always have integers whose weighted squares add up to 0: four and the target.
-_MOST_PLACES = 4
 
 
 def without_squares(number):
@@ -20,51 +18,47 @@ def without_squares(number):
     return rest, root
 
 
-def light_vector(weights, target, many):
-    """A vector, as light as can be, so many integers, and the indices of some weights, with the following properties.
+def light_vector(weights, target, many, free):
+    """A vector, as light as can be, so many integers, and the sequence of all indices, with the following properties.
 
     The sum of the weighted squares of the vector, multiplied by the target, is the sum of the squares of the
-    integers. All entries at other indices are 0, and in the sequence of the indices no sum of the first weighted
-    squares is 0, but where all of them are. There must be such a vector.
+    integers. So many entries as shall be free are 0, at weights that are not heavy. In the sequence of the indices no
+    sum of the first weighted squares is 0, but where all of them are. There must be such a vector: there is one if any
+    four other weights are left, and one of them has the sign of the target.
     """
     parts = [without_squares(weight) for weight in weights]
-    places = _places([rest for rest, _ in parts], sign_of(target))
-    roots, squares = _roots([parts[at][0] for at in places], target, many)
-    vector = [Ratio(0)] * len(weights)
-    for at, root in zip(places, roots):
-        vector[at] = Ratio(root, parts[at][1])
-    return tuple(vector), squares, places
-
-
-def _places(weights, sign):
-    """The indices of at most four light weights, the heaviest one first, one of them with the sign."""
-    order = sorted([(abs(weight), at) for at, weight in enumerate(weights)])
-    ahead = [at for _, at in order if sign_of(weights[at]) == sign][:1]
-    others = [at for _, at in order if at not in ahead][:_MOST_PLACES - 1]
-    chosen = [(abs(weights[at]), at) for at in ahead + others]
-    return [at for _, at in sorted(chosen, reverse=True)]
-
-
-def _roots(weights, target, many):
-    """The least roots by their greatest one, not all 0, and the integers whose squares they make."""
+    sizes = sorted([(abs(rest), index) for index, (rest, _) in enumerate(parts)], reverse=True)
+    order = [at for _, at in sizes]
+    rests = [parts[at][0] for at in order]
+    most = len([rest for rest in rests if abs(rest) <= MOST_LIGHT]) - free
     bound = 1
-    found = _found(weights, target, many, bound, ())
+    found = _found(rests, (target, many, bound), most, (), 0)
     while found is None:
         bound = bound + 1
-        found = _found(weights, target, many, bound, ())
-    return found
+        found = _found(rests, (target, many, bound), most, (), 0)
+    vector = [Ratio(0)] * len(weights)
+    for at, root in zip(order, found[0]):
+        vector[at] = Ratio(root, parts[at][1])
+    return tuple(vector), found[1], order
 
 
-def _found(weights, target, many, bound, chosen):
-    """The first such roots, of which the greatest one is the bound and the first ones are chosen, or None."""
-    total = sum([weight * root * root for weight, root in zip(weights, chosen)])
-    if total == 0 and any(chosen):
-        return None
+def _found(weights, asked, most, chosen, total):
+    """The first roots of which the greatest one is the bound, with the first ones chosen, and the squares, or None.
+
+    `asked` has the target, the number of the squares and the bound; `most` tells how many more roots at light weights
+    can be other than 0, `total` is the sum of the weighted squares of the chosen ones.
+    """
+    target, many, bound = asked
     if len(chosen) == len(weights):
         squares = square_roots(total * target, many) if max(chosen) == bound else None
         return None if squares is None else (chosen, squares)
-    for root in range(bound + 1):
-        found = _found(weights, target, many, bound, chosen + (root,))
-        if found is not None:
-            return found
+    weight = weights[len(chosen)]
+    less = most - int(abs(weight) <= MOST_LIGHT)
+    last = bound if less >= 0 else 0
+    for root in range(last + 1):
+        more = total + weight * root * root
+        if root == 0 or more != 0:
+            found = _found(weights, asked, less if root else most, chosen + (root,), more)
+            if found is not None:
+                return found
     return None

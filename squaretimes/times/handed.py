@@ -87,8 +87,8 @@ class Times:
         return isinstance(other, Times) and self._weights == other._weights and self._tables == other._tables
 
     def __str__(self):
-        words = ["times of", str(len(self._weights)), "with weights"] + [str(weight) for weight in self._weights]
-        return " ".join(words)
+        words = " ".join([str(weight) for weight in self._weights])
+        return f"times of {len(self._weights)} with weights {words}"
 
 
 def _only_solution(rows):

@@ -6,8 +6,8 @@ squares as they are, so that the squares stay small, however long the integers o
 
 from squaretimes.base.bundles import bundle_row
 from squaretimes.base.ratios import Ratio
-from squaretimes.double.doubled import MAX_SQUARE
-from squaretimes.square.weighted import light_vector, without_squares
+from squaretimes.base.tables import idle_table
+from squaretimes.square.weighted import MOST_LIGHT, light_vector, without_squares
 
 
 def _shared(weights, x, y):
@@ -49,7 +49,7 @@ def _axis(weights, row):
 
 def _other_axes(weights, vector, places):
     """Axes that stand upright to a light vector and to each other, the lightest one first."""
-    rows = [tuple([Ratio(int(at == place)) for at in range(len(weights))]) for place in range(len(weights))]
+    rows = idle_table(len(weights))
     found = [row for row, entry in zip(rows, vector) if not entry]
     # The part that the first few entries make, and the next unit, have one row in their plane that stands upright to
     # their sum. No such part has the weighed square 0.
@@ -75,7 +75,7 @@ def likeness_of(weights, tables, one):
     """The squares of an algebra, and the table that takes its elements to rows, for a multiplication with this one."""
     if len(weights) == 1:
         return (), (one,)
-    vector, (root,), places = light_vector(weights, 1, 1)
+    vector, (root,), places = light_vector(weights, 1, 1, len(weights) // 8 * 4)
     axes = _other_axes(weights, vector, places)
     normal = _normal(weights, _combined([vector], [Ratio(1, root)]), one)
     chosen = axes[:1] if len(weights) == 2 else axes[:2]
@@ -92,24 +92,11 @@ def _third_axis(weights, axes, product):
     """An axis that stands upright to the first two of seven axes and to the product of these, where the mirror is."""
     target = axes[0][0] * axes[1][0]
     left = axes[2:]
-    # Four axes have a light vector with the weighed square of the product if one of them has its sign; the fifth axis
-    # stands upright to it.
-    free = [at for at in range(len(left)) if abs(left[at][0]) <= MAX_SQUARE and _have_sign(_without(left, at), target)]
-    others = _without(left, free[-1])
-    vector, (root,), _ = light_vector([norm for norm, _ in others], target, 1)
-    light = _combined([row for _, row in others], [entry * Ratio(target, root) for entry in vector])
-    norm, row = left[free[-1]]
+    # A light vector with the weighed square of the product leaves one axis free, which stands upright to it.
+    vector, (root,), _ = light_vector([norm for norm, _ in left], target, 1, 1)
+    light = _combined([row for _, row in left], [entry * Ratio(target, root) for entry in vector])
+    norm, row = [axis for axis, entry in zip(left, vector) if not entry and abs(axis[0]) <= MOST_LIGHT][0]
     return norm, _mirrored(weights, row, _normal(weights, light, product))
-
-
-def _without(axes, at):
-    """The axes but the one at an index."""
-    return axes[:at] + axes[at + 1:]
-
-
-def _have_sign(axes, target):
-    """Whether one of the weighed squares has the sign of the target."""
-    return any([norm * target > 0 for norm, _ in axes])
 
 
 def _images(tables, one, rows):
