@@ -190,6 +190,45 @@ class Code(unittest.TestCase):
             if isinstance(node, ast.Compare) and isinstance(node.ops[0], (ast.Is, ast.IsNot)):
                 self.assertIn(node.comparators[0].value, (None, True, False), (path, node.lineno))
 
+    def test_texts_of_objects_are_plain(self):
+        for path, node in nodes(ast.FunctionDef):
+            if node.name in ("__str__", "__repr__"):
+                self.assertIsInstance(node.body[-1], ast.Return, path)
+                for inner in ast.walk(node):
+                    self.assertNotIsInstance(inner, ast.Add, (path, node.lineno))
+                    if isinstance(inner, ast.Return):
+                        told = inner.value
+                        name = getattr(told, "func", None)
+                        plain = isinstance(told, (ast.JoinedStr, ast.Constant)) or getattr(name, "id", "") == "str"
+                        joined = isinstance(name, ast.Attribute) and isinstance(name.value, ast.Constant)
+                        self.assertTrue(plain or joined, (path, inner.lineno))
+
+    def test_variables_do_not_have_the_names_of_imports_or_classes(self):
+        for path in FILES:
+            tree = parsed(path)
+            taken = {name.name for node in tree.body if isinstance(node, ast.ImportFrom) for name in node.names}
+            taken = taken | {node.name for node in tree.body if isinstance(node, ast.ClassDef)}
+            for node in ast.walk(tree):
+                if isinstance(node, ast.Name) and isinstance(node.ctx, ast.Store):
+                    self.assertNotIn(node.id, taken, (path, node.lineno))
+                if isinstance(node, ast.arg):
+                    self.assertNotIn(node.arg, taken, (path, node.lineno))
+
+    def test_ranges_and_the_like_are_iterated_at_once(self):
+        at_once = {"list", "tuple", "sorted", "sum", "any", "all", "enumerate", "zip", "dict", "min", "max"}
+        for path in FILES:
+            tree = parsed(path)
+            let = set()
+            for node in ast.walk(tree):
+                if isinstance(node, (ast.For, ast.comprehension)):
+                    let.add(node.iter)
+                elif isinstance(node, ast.Call) and isinstance(node.func, ast.Name) and node.func.id in at_once:
+                    let.update(node.args)
+            for node in ast.walk(tree):
+                if isinstance(node, ast.Call) and isinstance(node.func, ast.Name):
+                    if node.func.id in ("range", "zip", "enumerate", "reversed"):
+                        self.assertIn(node, let, (path, node.lineno))
+
     def test_no_property_has_the_name_of_a_method(self):
         properties, methods = set(), set()
         for _, owner in nodes(ast.ClassDef):
