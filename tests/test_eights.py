@@ -155,6 +155,17 @@ class Judged(Case, unittest.TestCase):
             changed = (x, Element(other, tuple(entries), y.bottom), z)
             self.assert_same(is_images(one, other, changed), plain_is_images(one, other, changed))
 
+    def test_each_two_of_a_triple_count(self):
+        e = EIGHT.units()
+        mixed = (e[1].scaled(3) + e[4].scaled(4)).scaled(Ratio(1, 5))
+        other = (e[2].scaled(3) + e[4].scaled(4)).scaled(Ratio(1, 5))
+        both = (e[3].scaled(3) + e[4].scaled(4)).scaled(Ratio(1, 5))
+        for z in (mixed, other, both):
+            self.assertTrue(z * z == -e[0])
+            self.assert_same(is_images(EIGHT, EIGHT, (e[1], e[2], z)), False)
+        self.assert_same(is_images(EIGHT, EIGHT, (e[1], mixed, e[2])), False)
+        self.assert_same(is_images(EIGHT, EIGHT, (e[1], e[1], e[4])), False)
+
     def test_other_values(self):
         e = EIGHT.units()
         wrong = NO_RATIOS + (

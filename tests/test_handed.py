@@ -466,6 +466,17 @@ class Recognised(Case, unittest.TestCase):
             self.assertTrue(plain_is_likeness(changed, *told) and is_recognised(changed, told))
             self.assertLessEqual(max([abs(square) for square in told[0].squares]), 10 ** 6)
 
+    def test_ones_apart_by_a_row_of_the_weighed_square_0(self):
+        for squares in ((1, -1), (1, -1, -1), (1, -1, 5)):
+            times = times_of_algebra(Doubled(squares))
+            for part in (Ratio(1, 2), Ratio(-7, 3)):
+                times = with_one(times, (1, part, part) + (0,) * (times.dimension - 3))
+                one = times.one()
+                apart = (one[0] - 1,) + one[1:]
+                self.assertTrue(times.weighed(apart) == 0 and any(apart))
+                told = recognised(times)
+                self.assertTrue(plain_is_likeness(times, *told) and is_recognised(times, told))
+
     def test_long_integers(self):
         chance = random.Random(91)
         times = times_of_algebra(Doubled((-2, -3, 5)))

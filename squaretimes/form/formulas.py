@@ -88,11 +88,11 @@ class Formula:
     def beside(self, other):
         """The formula whose value at x, and at the row of y and z, is the row of both values."""
         check_formula(other)
-        many, rows, columns = self.sizes
-        others, more_rows, more_columns = other.sizes
+        many, _, columns = self.sizes
+        others, _, more_columns = other.sizes
         if many != others:
             raise InvalidOperation("the first sizes are unlike")
-        _check_sides(rows + more_rows, columns + more_columns)
+        _check_columns(columns + more_columns)
         ahead, behind = _noughts(columns), _noughts(more_columns)
         return _formula_of([
             [row + behind for row in table] + [ahead + row for row in later]
@@ -102,11 +102,11 @@ class Formula:
     def above(self, other):
         """The formula whose value at the row of x and z, and at y, is the row of both values."""
         check_formula(other)
-        many, rows, columns = self.sizes
-        others, more_rows, more_columns = other.sizes
+        _, rows, columns = self.sizes
+        _, more_rows, more_columns = other.sizes
         if rows != more_rows:
             raise InvalidOperation("the second sizes are unlike")
-        _check_sides(many + others, columns + more_columns)
+        _check_columns(columns + more_columns)
         ahead, behind = _noughts(columns), _noughts(more_columns)
         firsts = [[row + behind for row in table] for table in self._tables]
         return _formula_of(firsts + [[ahead + row for row in table] for table in other._tables])
@@ -118,9 +118,9 @@ class Formula:
         return f"formula of sizes {self.sizes}"
 
 
-def _check_sides(side, columns):
-    """Refuses new sizes that are too great."""
-    if max(side, columns) > MAX_SIDE:
+def _check_columns(columns):
+    """Refuses new sizes that are too great: none of a formula is greater than the number of the columns."""
+    if columns > MAX_SIDE:
         raise TooMany(MAX_SIDE)
 
 

@@ -161,12 +161,12 @@ def _completed(marks, units):
     if 0 not in marks:
         return marks
     row = marks.index(0)
-    for column in range(1, len(marks) + 1):
-        for mark in (column, -column):
-            more = _spread(marks, row, mark, units)
-            found = None if more is None else _completed(more, units)
-            if found is not None:
-                return found
+    # Marks above 0 are enough: all that follows from a mark can be there with the other signs as well.
+    for mark in range(1, len(marks) + 1):
+        more = _spread(marks, row, mark, units)
+        found = None if more is None else _completed(more, units)
+        if found is not None:
+            return found
     return None
 
 

@@ -78,7 +78,7 @@ def likeness_of(weights, tables, one):
     vector, (root,), places = light_vector(weights, 1, 1, len(weights) // 8 * 4)
     axes = _other_axes(weights, vector, places)
     normal = _normal(weights, _combined([vector], [Ratio(1, root)]), one)
-    chosen = axes[:1] if len(weights) == 2 else axes[:2]
+    chosen = axes[:2]
     rows = [_mirrored(weights, row, normal) for _, row in chosen]
     if len(weights) == 8:
         product = _mirrored(weights, bundle_row(tables, rows[0], rows[1]), normal)
