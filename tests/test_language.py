@@ -17,7 +17,7 @@ BUILTINS = {
     "len", "range", "enumerate", "zip", "min", "max", "sum", "abs", "sorted", "reversed", "int", "str", "bool", "bytes",
     "list", "tuple", "dict", "set", "isinstance", "ord", "repr", "any", "all", "divmod", "property", "staticmethod",
     "super", "ValueError", "TypeError", "KeyError", "IndexError", "LookupError", "ArithmeticError", "OverflowError",
-    "NotImplemented",
+    "NotImplemented", "iter",
 }
 METHODS = {
     "append", "count", "endswith", "extend", "get", "index", "insert", "isdigit", "items", "join", "keys", "pop",
@@ -140,7 +140,7 @@ class Code(unittest.TestCase):
         for path, node in nodes(ast.stmt):
             self.assertIsInstance(node, STATEMENTS, (path, node.lineno))
         barred = (
-            ast.Yield, ast.YieldFrom, ast.Await, ast.GeneratorExp, ast.Lambda, ast.Set, ast.SetComp, ast.NamedExpr,
+            ast.YieldFrom, ast.Await, ast.GeneratorExp, ast.Lambda, ast.Set, ast.SetComp, ast.NamedExpr,
             ast.Div,
         )
         for path, node in nodes(barred):
@@ -228,6 +228,30 @@ class Code(unittest.TestCase):
                 if isinstance(node, ast.Call) and isinstance(node.func, ast.Name):
                     if node.func.id in ("range", "zip", "enumerate", "reversed"):
                         self.assertIn(node, let, (path, node.lineno))
+
+    def test_generators_are_plain_and_iterated_at_once(self):
+        names = set()
+        for path, node in nodes(ast.FunctionDef):
+            yields = [one for one in ast.walk(node) if isinstance(one, ast.Yield)]
+            told = [one.value for one in ast.walk(node) if isinstance(one, ast.Expr)]
+            self.assertTrue(all(one in told for one in yields), (path, node.name))
+            if yields:
+                names.add(node.name)
+                self.assertFalse(node.decorator_list or node.name in DOUBLE, (path, node.name))
+                self.assertTrue(all(one.value is None for one in ast.walk(node) if isinstance(one, ast.Return)))
+        for path in FILES:
+            tree = parsed(path)
+            heads = [one.iter for one in ast.walk(tree) if isinstance(one, (ast.For, ast.comprehension))]
+            for node in ast.walk(tree):
+                if isinstance(node, ast.Name) and node.id in names:
+                    self.assertIn(node, [getattr(head, "func", None) for head in heads], (path, node.lineno))
+
+    def test_iter_stands_in_the_method_of_its_name_alone(self):
+        for path, node in nodes(ast.FunctionDef):
+            asked = [one for one in ast.walk(node) if isinstance(one, ast.Name) and one.id == "iter"]
+            if asked or node.name == "__iter__":
+                self.assertEqual((node.name, len(node.body), len(asked)), ("__iter__", 1, 1), path)
+                self.assertRegex(ast.unparse(node.body[0]), r"^return iter\(self\._[a-z]+\)$", path)
 
     def test_no_property_has_the_name_of_a_method(self):
         properties, methods = set(), set()

@@ -29,16 +29,8 @@ class Ratio:
     @staticmethod
     def read(text):
         """The ratio with this `str`."""
-        if not isinstance(text, str):
-            raise ParseError(0)
-        words = text.split("/", 1)
-        top = read_integer(words[0])
-        bottom = read_integer(words[1]) if len(words) == 2 else 1
-        if top is None or bottom is None or bottom == 0:
-            raise ParseError(0)
-        ratio = Ratio(top, bottom)
-        # A text with other than the lowest terms tells a ratio with another str.
-        if str(ratio) != text:
+        ratio = read_ratio(text) if isinstance(text, str) else None
+        if ratio is None:
             raise ParseError(0)
         return ratio
 
@@ -114,6 +106,18 @@ def ratio_of(top, bottom):
     made._top = terms[0]
     made._bottom = terms[1]
     return made
+
+
+def read_ratio(text):
+    """The ratio with this `str`, its integers of at most sixty digits, or None."""
+    words = text.split("/", 1)
+    top = read_integer(words[0])
+    bottom = read_integer(words[1]) if len(words) == 2 else 1
+    if top is None or bottom is None or bottom == 0:
+        return None
+    ratio = Ratio(top, bottom)
+    # A text with other than the lowest terms tells a ratio with another str.
+    return ratio if str(ratio) == text else None
 
 
 def parts_of(ratio):

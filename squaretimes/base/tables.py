@@ -7,18 +7,18 @@ from squaretimes.errors import InvalidOperation, InvalidTable
 MAX_SIDE = 32
 
 
-def _is_grid(value):
-    """Whether the value is a tuple of 1 to 32 tuples of equally many members, 1 to 32."""
-    if not (isinstance(value, tuple) and 1 <= len(value) <= MAX_SIDE):
+def is_grid(value, most):
+    """Whether the value is a tuple of tuples of equally many members, one at least and not more than told of both."""
+    if not (isinstance(value, tuple) and 1 <= len(value) <= most):
         return False
     if not all([isinstance(row, tuple) for row in value]):
         return False
-    return 1 <= len(value[0]) <= MAX_SIDE and all([len(row) == len(value[0]) for row in value])
+    return 1 <= len(value[0]) <= most and all([len(row) == len(value[0]) for row in value])
 
 
 def is_table(value):
     """Whether the value is a table, with objects of Ratio alone."""
-    return _is_grid(value) and all([isinstance(entry, Ratio) for row in value for entry in row])
+    return is_grid(value, MAX_SIDE) and all([isinstance(entry, Ratio) for row in value for entry in row])
 
 
 def _check_table(value):
@@ -36,7 +36,7 @@ def _check_square(table):
 
 def table_of(rows):
     """The table with ratios in the place of integers."""
-    if not (_is_grid(rows) and all([are_ratios(row, 1, MAX_SIDE) for row in rows])):
+    if not (is_grid(rows, MAX_SIDE) and all([are_ratios(row, 1, MAX_SIDE) for row in rows])):
         raise InvalidTable("no rows of equally many ratios and integers")
     return tuple([tuple([as_ratio(entry) for entry in row]) for row in rows])
 
@@ -82,7 +82,12 @@ def table_product(one, other):
 def turned_table(table):
     """The table whose rows are the columns of this one."""
     _check_table(table)
-    return tuple([tuple([row[at] for row in table]) for at in range(len(table[0]))])
+    return turned_lists(table)
+
+
+def turned_lists(rows):
+    """The columns of rows of any members, as tuples in a tuple."""
+    return tuple([tuple([row[at] for row in rows]) for at in range(len(rows[0]))])
 
 
 def scaled_table(table, ratio):

@@ -16,7 +16,7 @@ MAX_NOUGHT = 30
 _NOUGHT_BOX = 25
 
 
-def _are_squares(value):
+def are_squares(value):
     """Whether the value is a tuple of at most four integers other than 0, none of them too great."""
     if not (isinstance(value, tuple) and len(value) <= MAX_DOUBLINGS):
         return False
@@ -27,7 +27,7 @@ class Doubled:
     """The doubled algebra of some squares. It never changes."""
 
     def __init__(self, squares):
-        if not _are_squares(squares):
+        if not are_squares(squares):
             raise InvalidAlgebra("no tuple of at most four integers other than 0")
         self._squares = squares
 

@@ -20,7 +20,7 @@ def check_formula(value):
         raise InvalidFormula("no formula")
 
 
-def _check_choice(value, many):
+def check_choice(value, many):
     """Refuses every value but an ascending tuple of at least one index."""
     if not (is_ascending(value, many) and value):
         raise InvalidOperation("no ascending tuple of indices")
@@ -77,13 +77,13 @@ class Formula:
     def cut(self, firsts, seconds):
         """The formula of the x and the y with some indices alone."""
         many, rows, _ = self.sizes
-        _check_choice(firsts, many)
-        _check_choice(seconds, rows)
-        return _formula_of([[self._tables[first][second] for second in seconds] for first in firsts])
+        check_choice(firsts, many)
+        check_choice(seconds, rows)
+        return known_formula([[self._tables[first][second] for second in seconds] for first in firsts])
 
     def exchanged(self):
         """The formula with the same values, x and y exchanged."""
-        return _formula_of([[table[at] for table in self._tables] for at in range(len(self._tables[0]))])
+        return known_formula([[table[at] for table in self._tables] for at in range(len(self._tables[0]))])
 
     def beside(self, other):
         """The formula whose value at x, and at the row of y and z, is the row of both values."""
@@ -94,7 +94,7 @@ class Formula:
             raise InvalidOperation("the first sizes are unlike")
         _check_columns(columns + more_columns)
         ahead, behind = _noughts(columns), _noughts(more_columns)
-        return _formula_of([
+        return known_formula([
             [row + behind for row in table] + [ahead + row for row in later]
             for table, later in zip(self._tables, other._tables)
         ])
@@ -109,7 +109,7 @@ class Formula:
         _check_columns(columns + more_columns)
         ahead, behind = _noughts(columns), _noughts(more_columns)
         firsts = [[row + behind for row in table] for table in self._tables]
-        return _formula_of(firsts + [[ahead + row for row in table] for table in other._tables])
+        return known_formula(firsts + [[ahead + row for row in table] for table in other._tables])
 
     def __eq__(self, other):
         return isinstance(other, Formula) and self._tables == other._tables
@@ -129,7 +129,7 @@ def _noughts(many):
     return (Ratio(0),) * many
 
 
-def _formula_of(tables):
+def known_formula(tables):
     """The formula of tables, lists of rows, that are known to make one."""
     # The class tests all rules of its tables, which takes long for great ones.
     made = Formula((((Ratio(1),),),))

@@ -56,7 +56,7 @@ def is_family(value):
     return _are_sign_tables(value) and _least_pair(value) is None
 
 
-def _check_family(value):
+def check_family(value):
     """Refuses every value that is no family."""
     if not is_family(value):
         raise InvalidFamily("no family")
@@ -85,7 +85,7 @@ def _mark_of(entries):
     return sum([(at + 1) * sign_of(entry) for at, entry in enumerate(entries)])
 
 
-def _crossed(one, other):
+def crossed(one, other):
     """The sign table that has the other table in the place of each entry of the one, with the sign of the entry."""
     size = other.size
     return SignTable(tuple([
@@ -96,28 +96,28 @@ def _crossed(one, other):
 
 def copied(family, many):
     """The family with each member so many times along the diagonal."""
-    _check_family(family)
+    check_family(family)
     check_number(many, 1, MAX_SIZE)
     if family[0].size * many > MAX_SIZE:
         raise TooMany(MAX_SIZE)
     idle = SignTable.idle(many)
-    return tuple([_crossed(idle, member) for member in family])
+    return tuple([crossed(idle, member) for member in family])
 
 
 def grown(family):
     """A family of 16 times the size with 8 members more."""
-    _check_family(family)
+    check_family(family)
     size = family[0].size
     if size > MAX_GROWN:
         raise TooMany(MAX_GROWN)
     swap, turn = SignTable((2, 1)), SignTable((2, -1))
     eights = _units_of(8)
-    units = [_crossed(swap, unit) for unit in eights[1:]] + [_crossed(turn, eights[0])]
+    units = [crossed(swap, unit) for unit in eights[1:]] + [crossed(turn, eights[0])]
     # The product of these eight units anticommutes with each of them, and its square is idle.
     whole = _product(units, _PERIOD)
     idle = SignTable.idle(size)
-    ahead = [SignTable.idle(size * _PERIOD)] + [_crossed(unit, idle) for unit in units]
-    return tuple(ahead + [_crossed(whole, member) for member in family[1:]])
+    ahead = [SignTable.idle(size * _PERIOD)] + [crossed(unit, idle) for unit in units]
+    return tuple(ahead + [crossed(whole, member) for member in family[1:]])
 
 
 def _product(tables, size):
@@ -130,7 +130,7 @@ def _product(tables, size):
 
 def word_of(family, indices):
     """The product of the members at some indices, in their sequence."""
-    _check_family(family)
+    check_family(family)
     if not (isinstance(indices, tuple) and len(indices) <= _MAX_WORD):
         raise InvalidOperation("no tuple of at most 64 indices")
     if not all([is_integer(index) and 0 <= index < len(family) for index in indices]):
@@ -140,7 +140,7 @@ def word_of(family, indices):
 
 def bar(family):
     """The product of all units if it bars the family from further ones, or None."""
-    _check_family(family)
+    check_family(family)
     units = family[1:]
     whole = _product(units, family[0].size)
     return whole if len(units) % 4 == 3 and whole.trace != 0 else None
@@ -148,7 +148,7 @@ def bar(family):
 
 def further(family):
     """A sign table that makes a greater family behind the members, or None."""
-    _check_family(family)
+    check_family(family)
     size = family[0].size
     if size > MAX_FURTHER:
         raise TooMany(MAX_FURTHER)
@@ -195,7 +195,7 @@ def _followers(row, mark, units):
 
 def formula_of_family(family):
     """The formula whose tables are those of the members."""
-    _check_family(family)
+    check_family(family)
     if family[0].size > MAX_SIDE:
         raise TooMany(MAX_SIDE)
     return Formula(tuple([member.table() for member in family]))

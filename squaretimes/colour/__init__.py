@@ -1,0 +1,1 @@
+"""Tables of colours, which signs make formulas, and bars by binomials."""

@@ -1,0 +1,1 @@
+"""Words of letters, and worlds of units."""
