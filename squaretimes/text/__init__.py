@@ -1,0 +1,1 @@
+"""Texts of elements and formulas."""

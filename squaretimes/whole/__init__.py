@@ -1,0 +1,1 @@
+"""Whole numbers of eight parts."""
