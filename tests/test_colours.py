@@ -304,7 +304,7 @@ class Signed(Case, unittest.TestCase):
             self.assertIs(is_signed(SIXTEENS, ("odd", tuple(sorted(one ^ other)))), False)
 
     def test_other_values(self):
-        for value in NO_RATIOS + (TWO, ((1, 1), (1, -1)), ("signs", TWO), (TWO, TWO), {"signs": 1}):
+        for value in NO_RATIOS + (TWO, ((1, 1), (1, -1)), ("signs", TWO), (TWO, TWO), {"signs": 1}, ("solution", (3,))):
             self.assertIs(is_signed(TWO, value), False)
         self.assertIs(is_signed(TWO, ("signs", ((1, 1), (1, -1)))), True)
 

@@ -270,7 +270,7 @@ class Deeds(Case, unittest.TestCase):
         wrong = NO_RATIOS + ((), ("put",), ("put", "a"), ("put", "a", A, A), ("take",), ("take", "a", "b"), ("minus",),
                              ("minus", "a", "b"), ("turn", "a", A), ("times", "a"), ("times", "a", "b"),
                              ("times", "a", "b", "a", "b"), ("beside", "a", "b"), ("above", "a", "b"), ("Put", "a", A),
-                             ("say", "a"), ("", "a"), (None, "a"), (("put",), "a", A), (["put"], "a", A), ["take", "a"],
+                             ("say", "a"), ("", "a"), ("plus", "a", "b", "a"), ("take", "a", "b", "a"), (None, "a"), (("put",), "a", A), (["put"], "a", A), ["take", "a"],
                              (1, "a"), "take a", ("undo",), ({}, "a", A), (A, "a", A), {"take": "a"}, (True, "a"))
         wrong = wrong + tuple([("put", "a", thing) for thing in NO_THINGS])
         for name in NO_NAMES:
@@ -322,7 +322,7 @@ class Deeds(Case, unittest.TestCase):
         desk = made(a=A, r=ROUND, e=I, s=SPLIT.one(), t=TWO, u=formula_of_family(family(4)))
         wrong = [("minus", "t")]
         wrong += [("times", "x", one, other) for one, other in (
-            ("a", "r"), ("a", "e"), ("e", "a"), ("e", "s"), ("t", "t"), ("t", "a"), ("a", "t"), ("e", "t"))]
+            ("a", "r"), ("a", "e"), ("e", "a"), ("e", "s"), ("t", "t"), ("t", "a"), ("a", "t"), ("e", "t"), ("t", "e"))]
         for word in ("beside", "above"):
             wrong += [(word, "x", one, other) for one, other in (
                 ("a", "a"), ("a", "t"), ("t", "a"), ("e", "e"), ("t", "u"), ("u", "t"), ("t", "e"))]
@@ -429,7 +429,7 @@ class Sayings(Case, unittest.TestCase):
             ("equal", "a", "b"), ("equal", "a", "r"), ("equal", "a", "e"), ("equal", "t", "v"), ("equal", "t", "a"),
             ("equal", "e", "s"), ("unit", "f"), ("unit", "h"), ("unit", "n"), ("unit", "t"), ("against", "a", "c"),
             ("against", "a", "r"), ("against", "a", "e"), ("against", "e", "s"), ("against", "t", "u"),
-            ("against", "e", "h"), ("against", "t", "a"), ("norm", "h", Ratio(1)), ("norm", "a", Ratio(1)),
+            ("against", "e", "h"), ("against", "t", "a"), ("against", "t", "e"), ("against", "e", "t"), ("norm", "h", Ratio(1)), ("norm", "a", Ratio(1)),
             ("norm", "t", Ratio(1)), ("sizes", "t", (2, 2, 4)), ("sizes", "a", (4, 4, 4)), ("sizes", "e", (1, 1, 1)),
             ("sizes", "t", (0, -2, 10 ** 59)), ("sizes", "v", (3, 2, 4)),
         )

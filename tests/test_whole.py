@@ -41,6 +41,7 @@ def words(at):
 
 def is_whole(at, element):
     """By [14.2]."""
+    assert len(element.entries) == 8 and element.algebra == EIGHT
     twice = [Fraction(2 * entry, element.bottom) for entry in element.entries]
     if any(entry.denominator != 1 for entry in twice):
         return False
@@ -276,6 +277,8 @@ class Division(Case, unittest.TestCase):
         found = [divided(ORDER, (I + J) * TURN, other + J, ahead=ahead) for ahead in (False, True)]
         for ahead in (False, True):
             self.assertIs(is_divided(ORDER, (I + J) * TURN, other + J, found[ahead], ahead=ahead), True)
+        self.assertTrue(divided(ORDER, one * other, other)[0] == one)
+        self.assertTrue(divided(ORDER, other * one, other, ahead=True)[0] == one)
         self.assertIs(is_divided(ORDER, one * other, other, (one, ONE.scaled(0))), True)
         self.assertIs(is_divided(ORDER, one * other, other, (one, ONE.scaled(0)), ahead=True), False)
         self.assertIs(is_divided(ORDER, other * one, other, (one, ONE.scaled(0)), ahead=True), True)

@@ -167,6 +167,14 @@ class Clashes(Case, unittest.TestCase):
                     value = tuple([chance.choice(firsts + seconds) for _ in range(4)])
                     self.assertIs(is_clash(firsts, seconds, many, value), value in right)
 
+    def test_is_clash_of_all_quadruples(self):
+        lots = ((0, 15), (0, 14, 15), (1, 14), (0, 1, 7, 8, 14, 15), (3,))
+        for firsts, seconds in product(lots, repeat=2):
+            right = clashes(firsts, seconds)
+            for a, b, c in product(range(16), repeat=3):
+                for d in {a ^ b ^ c, b}:
+                    self.assertIs(is_clash(firsts, seconds, 4, (a, b, c, d)), (a, b, c, d) in right)
+
     def test_is_clash_of_other_values(self):
         wrong = NO_RATIOS + (
             (False, 15, 0, 15), (0, 15, False, 15), (0, 15, 0, None), (0, 15, 0, 10 ** 70), (10 ** 70, 0, 1, 2), "0123",

@@ -177,6 +177,10 @@ class EvenUnits(Case, unittest.TestCase):
                 self.assertIs(is_even_units(0, 1, value), False)
         self.assert_same([is_even_units(0, 3, (3, 5)), is_even_units(0, 1, ())], [True, True])
 
+    def test_units_of_no_world(self):
+        for value in ((3, 9), (9, 3), (9, 17), (3, 5), (3, 2 ** 70 + 1), (5, 6), (3, 6)):
+            self.assertIs(is_even_units(0, 3, value), max(value) < 8)
+
     def test_the_squares_with_1_stand_first(self):
         self.assert_same([is_even_units(1, 2, (5, 6)), is_even_units(1, 2, (6, 5))], [True, False])
 
@@ -226,7 +230,8 @@ class Images(Case, unittest.TestCase):
         for plus, minus in WITH_UNITS:
             images = images_of_units(plus, minus)
             for value in NO_RATIOS + (list(images), images + images[:1], images[:-1] + (None,), images[:-1] + (1,),
-                                      images[:-1] + (images[-1].marks,), (images,), images[:-1]):
+                                      images[:-1] + (images[-1].marks,), (images,), images[:-1],
+                                      (None,) + images[1:], ("a",) + images[1:], (images[0].table(),) + images[1:]):
                 self.assertIs(is_images_of_units(plus, minus, value), False)
 
     def test_unlike_sizes(self):

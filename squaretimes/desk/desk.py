@@ -18,14 +18,14 @@ def _is_name(value):
     return all(["a" <= letter <= "z" for letter in value])
 
 
-def _has_word(value):
-    """Whether the value is a tuple of at least two members, a string and a name first."""
-    return isinstance(value, tuple) and len(value) >= 2 and isinstance(value[0], str) and _is_name(value[1])
+def _has_name(value):
+    """Whether the value is a tuple with a name behind its first member."""
+    return isinstance(value, tuple) and len(value) >= 2 and _is_name(value[1])
 
 
 def _is_deed(value):
     """Whether the value is a deed."""
-    if not _has_word(value):
+    if not _has_name(value):
         return False
     word = value[0]
     if word == "put":
@@ -37,7 +37,7 @@ def _is_deed(value):
 
 def _is_saying(value):
     """Whether the value has the form of a saying."""
-    if not _has_word(value):
+    if not _has_name(value):
         return False
     word = value[0]
     if word == "unit":

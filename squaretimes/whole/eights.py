@@ -159,7 +159,6 @@ def _are_whole(order, value, many):
 
 def _check_factors(order, element, norm):
     """Refuses what has no factor pairs, or is too great for a search."""
-    _check_order(order)
     if not is_primitive_in(order, element):
         raise InvalidElement("no primitive element of the order")
     if not (is_passed_integer(norm) and norm >= 1):

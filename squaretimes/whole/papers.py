@@ -32,17 +32,20 @@ def _triples_for(basis, rows, element, wanted):
     """Triples of the basis, and factors for which their products add up to what is wanted, but for multiples."""
     norm = element.norm.top
     kept = [([norm * int(place == at) for place in range(len(rows))], []) for at in range(len(rows))]
+    triples = [(x, y, w) for x in basis for y in basis for w in basis]
     chosen = []
-    for triple in [(x, y, w) for x in basis for y in basis for w in basis]:
-        left, factors = _reduced(kept, wanted, norm)
-        if not any(left):
-            return chosen, factors
-        x, y, w = triple
+    at = 0
+    left, factors = _reduced(kept, wanted, norm)
+    # The products of all triples have each whole element as a sum of their multiples: the triples are enough.
+    while any(left):
+        x, y, w = triples[at]
+        at = at + 1
         row = [entry % norm for entry in _row_of(rows, x * (y * (w * element)))]
         if any(_reduced(kept, row, norm)[0]):
             kept = _with_row(kept, row, len(chosen), norm)
-            chosen.append(triple)
-    return chosen, _reduced(kept, wanted, norm)[1]
+            chosen.append((x, y, w))
+            left, factors = _reduced(kept, wanted, norm)
+    return chosen, factors
 
 
 def _reduced(kept, row, norm):

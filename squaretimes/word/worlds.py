@@ -156,7 +156,9 @@ def is_images_of_units(plus, minus, value):
     _check_world(plus, minus)
     if not (isinstance(value, tuple) and len(value) == plus + minus):
         return False
-    if not all([isinstance(image, SignTable) and image.size == value[0].size for image in value]):
+    if not all([isinstance(image, SignTable) for image in value]):
+        return False
+    if not all([image.size == value[0].size for image in value]):
         return False
     for at, image in enumerate(value):
         square = SignTable.idle(image.size)
