@@ -38,6 +38,12 @@ def sign_of(number):
     return 1 if number > 0 else 0
 
 
+def count_of_ones(number):
+    """The number of the binary digits 1 of an integer of at least 0."""
+    digits = f"{number:b}"
+    return digits.count("1")
+
+
 def read_integer(text):
     """The integer with this `str` and at most sixty digits, or None."""
     digits = text.removeprefix("-")

@@ -51,8 +51,11 @@ class Design:
 
     def _sent(self, ratios):
         """The table with ratios in the place of the unknowns."""
-        worth = [Ratio(0)] + list(ratios)
-        return tuple([tuple([worth[abs(mark)] * sign_of(mark) for mark in row]) for row in self._rows])
+        worth = {0: Ratio(0)}
+        for index, ratio in enumerate(ratios):
+            worth[index + 1] = ratio
+            worth[-(index + 1)] = -ratio
+        return tuple([tuple([worth[mark] for mark in row]) for row in self._rows])
 
     def read_back(self, table):
         """The value of each unknown: the sum of what stands at its places, with its signs, divided by the size."""

@@ -1,6 +1,6 @@
 """Words of letters: the signs of their products, and the lots of them that make formulas."""
 
-from squaretimes.base.integers import check_number, is_ascending, is_integer
+from squaretimes.base.integers import check_number, count_of_ones, is_ascending, is_integer
 from squaretimes.base.ratios import Ratio
 from squaretimes.errors import InvalidOperation, Refused, TooMany
 from squaretimes.form.formulas import known_formula
@@ -30,19 +30,14 @@ def _check_lots(firsts, seconds, many):
             raise InvalidOperation("no lot of words")
 
 
-def _weight(word):
-    """The number of the letters of a word that are 1."""
-    return sum([(word >> place) & 1 for place in range(word.bit_length())])
-
-
 def _sign(x, y):
     """The sign of two words."""
     # Each letter 1 of y counts the pairs of other letters of x that are 1, and the letters 1 of x up to its place.
     total = 0
     for place in range(y.bit_length()):
         if (y >> place) & 1:
-            others = _weight(x) - ((x >> place) & 1)
-            total = total + others * (others - 1) // 2 + _weight(x & ((2 << place) - 1))
+            others = count_of_ones(x) - ((x >> place) & 1)
+            total = total + others * (others - 1) // 2 + count_of_ones(x & ((2 << place) - 1))
     return -1 if total & 1 else 1
 
 
@@ -58,7 +53,7 @@ def word_weight(x, many):
     """The number of the letters of a word that are 1."""
     _check_many(many)
     _check_word(x, many)
-    return _weight(x)
+    return count_of_ones(x)
 
 
 def are_let(firsts, seconds, many):
@@ -70,7 +65,7 @@ def clash(firsts, seconds, many):
     """Two words of each lot that differ alike, by a weight that 4 divides, or None."""
     _check_lots(firsts, seconds, many)
     for word in range(1, 1 << many):
-        if _weight(word) % 4 == 0:
+        if count_of_ones(word) % 4 == 0:
             one, other = _pair_with(firsts, word), _pair_with(seconds, word)
             if one is not None and other is not None:
                 return one + other
@@ -92,7 +87,7 @@ def is_clash(firsts, seconds, many, value):
     a, b, c, d = value
     if not (a in firsts and b in firsts and c in seconds and d in seconds):
         return False
-    return a < b and c < d and a ^ b == c ^ d and _weight(a ^ b) % 4 == 0
+    return a < b and c < d and a ^ b == c ^ d and count_of_ones(a ^ b) % 4 == 0
 
 
 def words_formula(firsts, seconds, many):

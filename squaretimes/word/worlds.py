@@ -1,6 +1,6 @@
 """Worlds of units that anticommute and have the squares 1 and -1."""
 
-from squaretimes.base.integers import check_number, is_integer
+from squaretimes.base.integers import check_number, count_of_ones, is_integer
 from squaretimes.errors import InvalidOperation, TooMany
 from squaretimes.form.radon import crossed, family
 from squaretimes.form.signs import SignTable
@@ -31,11 +31,6 @@ def _check_world(plus, minus):
     _check_sum(plus, minus)
 
 
-def _count(mask):
-    """The number of the units in a mask."""
-    return sum([(mask >> at) & 1 for at in range(mask.bit_length())])
-
-
 def word_product(plus, minus, one, other):
     """The pair of the sign and the mask of the product of two words."""
     _check_units(plus, minus)
@@ -49,8 +44,8 @@ def word_product(plus, minus, one, other):
 def _product(plus, one, other):
     """The sign and the mask of the product of two words of a world with so many units with the square 1."""
     # Each unit of the other word goes past the later units of the one word; units that meet make their square.
-    passed = sum([_count(one >> (at + 1)) for at in range(other.bit_length()) if (other >> at) & 1])
-    sign = -1 if (passed + _count((one & other) >> plus)) & 1 else 1
+    passed = sum([count_of_ones(one >> (at + 1)) for at in range(other.bit_length()) if (other >> at) & 1])
+    sign = -1 if (passed + count_of_ones((one & other) >> plus)) & 1 else 1
     return sign, one ^ other
 
 
@@ -83,7 +78,7 @@ def is_even_units(plus, minus, value):
     many = plus + minus
     if not (isinstance(value, tuple) and len(value) == many - 1):
         return False
-    if not all([is_integer(mask) and 0 < mask < 1 << many and _count(mask) == 2 for mask in value]):
+    if not all([is_integer(mask) and 0 < mask < 1 << many and count_of_ones(mask) == 2 for mask in value]):
         return False
     squares = [_product(plus, mask, mask)[0] for mask in value]
     wanted = [_squares_of(p, q) for p, q in ((plus, minus - 1), (minus, plus - 1)) if q >= 0]
